@@ -206,10 +206,17 @@ func numbers(kind string) func(*layer, ast.Node) bool {
 
 // mentions: does the name of that thing stand in it?
 func mentions(l *layer, n ast.Node, o types.Object) bool {
+	return inside(l, n, func(l *layer, n ast.Node) bool {
+		name, ok := n.(*ast.Ident)
+		return ok && l.info.Uses[name] == o
+	})
+}
+
+// inside: is something that is asked for it, or in it?
+func inside(l *layer, n ast.Node, asked func(*layer, ast.Node) bool) bool {
 	found := false
 	ast.Inspect(n, func(n ast.Node) bool {
-		name, ok := n.(*ast.Ident)
-		found = found || ok && l.info.Uses[name] == o
+		found = found || n != nil && asked(l, n)
 		return !found
 	})
 	return found
